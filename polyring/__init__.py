@@ -1,0 +1,1 @@
+"""Algebra of sums in several unknowns, over the whole numbers and over a prime."""
