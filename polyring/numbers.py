@@ -1,6 +1,6 @@
 """Rings and their numbers: rests, greatest common divisors, inverses, quotients."""
 
-from polyring.errors import NoInverse, NoRing, NotWhole
+from polyring.errors import NoInverse, NoPrime, NoRing, NotWhole
 
 MOST_RING = 997
 
@@ -31,6 +31,11 @@ def check_ring(ring):
         raise NoRing("a ring is 0 or a prime from 2 to 997")
 
 
+def check_prime(prime):
+    if not is_ring(prime) or prime == 0:
+        raise NoPrime("a prime is one from 2 to 997")
+
+
 # As settled, for callers that have looked at the ring already.
 def rest_in_ring(ring, number):
     return number if ring == 0 else number % ring
@@ -55,6 +60,20 @@ def shared(one, other):
         upper = lower
         lower = following
     return upper
+
+
+# The g of shared alone, of any list of whole numbers.
+def greatest_number(numbers):
+    greatest = 0
+    for number in numbers:
+        lower = abs(number)
+        while lower != 0:
+            rest = greatest % lower
+            greatest = lower
+            lower = rest
+        if greatest == 1:
+            return 1
+    return greatest
 
 
 def inverse(ring, number):

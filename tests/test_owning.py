@@ -3,14 +3,17 @@
 import unittest
 from copy import deepcopy
 
+from polyring.notes import read
+from polyring.rows import row_made, row_minus, row_of, row_plus, row_scaled, row_slope, row_times, row_value, sum_of
 from polyring.sums import constant, made, minus, plus, raised, scaled, slope, times, value
+from things import lists_within
 
 ROW = [((2, 1), 3), ((1, 0), 4), ((0, 0), 1)]
 OTHER = [((2, 0), 1), ((0, 1), 2)]
 PAIRS = [((0, 1), 2), ((2, 0), 9), ((0, 1), -2), ((1, 1), 3)]
 
-# Each one answers a list; arguments behind the ring.
-CASES = (
+# Arguments behind the ring, which is 0 and 5 in turn.
+SUMS = (
     (made, 2, PAIRS),
     (made, 2, []),
     (made, 2, ROW),
@@ -40,54 +43,97 @@ CASES = (
     (slope, ROW, 0),
     (slope, ROW, 1),
     (slope, [], 0),
+    (value, ROW, [7, -3]),
+    (value, [], [7, -3]),
+    (read, 2, "0"),
+    (read, 2, "x^2 + 3*y"),
 )
+
+ROWS = (
+    (row_made, 5, [1, 2, 3]),
+    (row_made, 5, [7, 0, -5]),
+    (row_made, 5, []),
+    (row_plus, 5, [1, 2, 3], [1, 1]),
+    (row_plus, 5, [1, 2, 3], []),
+    (row_plus, 5, [], [1, 2, 3]),
+    (row_plus, 5, [], []),
+    (row_minus, 5, [1, 2, 3], [1, 1]),
+    (row_minus, 5, [1, 2, 3], []),
+    (row_minus, 5, [1, 2, 3], [1, 2, 3]),
+    (row_times, 5, [1, 2, 3], [1]),
+    (row_times, 5, [1], [1, 2, 3]),
+    (row_times, 5, [1, 2, 3], [2, 4]),
+    (row_times, 5, [1, 2, 3], []),
+    (row_times, 5, [], [1, 2, 3]),
+    (row_scaled, 5, [1, 2, 3], 1),
+    (row_scaled, 5, [1, 2, 3], 0),
+    (row_scaled, 5, [], 1),
+    (row_slope, 5, [1, 2, 3]),
+    (row_slope, 5, [4]),
+    (row_slope, 5, []),
+    (row_value, 5, [1, 2, 3], 4),
+    (row_of, [((2,), 3), ((0,), 1)]),
+    (row_of, [((0,), 1)]),
+    (row_of, []),
+    (sum_of, [1, 0, 3]),
+    (sum_of, []),
+)
+
+CASES = tuple((case[0], ring) + case[1:] for case in SUMS for ring in (0, 5)) + ROWS
+
+
+def change_all(lists):
+    """Changes each list, those within another one ahead of it, so that all that stands in it is gone."""
+    for one in reversed(lists):
+        one.append("more")
+        one.insert(0, "less")
+        del one[1:-1]
 
 
 class Owning(unittest.TestCase):
     def each_case(self):
-        for ring in (0, 5):
-            for case in CASES:
-                yield case[0], [ring] + deepcopy(list(case[1:]))
+        for case in CASES:
+            yield case[0], deepcopy(list(case[1:]))
 
     def test_4_what_is_handed_in_stays_as_it_was(self):
         for action, arguments in self.each_case():
             before = deepcopy(arguments)
             action(*arguments)
-            self.assertEqual(arguments, before)
+            self.assertEqual(arguments, before, action.__name__)
 
-    def test_4_the_answer_is_none_of_the_lists_handed_in(self):
+    def test_4_each_list_of_the_answer_is_a_new_one(self):
         for action, arguments in self.each_case():
-            answer = action(*arguments)
-            self.assertFalse(any(answer is argument for argument in arguments))
+            first = lists_within(action(*arguments))
+            second = lists_within(action(*arguments))
+            everyone = first + second + lists_within(arguments)
+            self.assertEqual(len(set(map(id, first + second))), len(first) + len(second), action.__name__)
+            handed = len(set(map(id, lists_within(arguments))))
+            self.assertEqual(len(set(map(id, everyone))), len(first) + len(second) + handed, action.__name__)
 
     def test_4_a_changed_answer_changes_nothing_else(self):
         for action, arguments in self.each_case():
             before = deepcopy(arguments)
             earlier = action(*arguments)
+            wanted = deepcopy(earlier)
             changed = action(*arguments)
-            self.assertIsNot(earlier, changed)
-            wanted = list(earlier)
-            changed.append("more")
-            changed.insert(0, "less")
-            self.assertEqual(arguments, before)
-            self.assertEqual(earlier, wanted)
+            change_all(lists_within(changed))
+            self.assertEqual(arguments, before, action.__name__)
+            self.assertEqual(earlier, wanted, action.__name__)
             later = action(*arguments)
-            self.assertEqual(later, wanted)
-            changed.clear()
-            self.assertEqual(later, wanted)
+            self.assertEqual(later, wanted, action.__name__)
+            change_all(lists_within(earlier))
+            self.assertEqual(later, wanted, action.__name__)
             self.assertEqual(action(*arguments), wanted)
+            self.assertEqual(arguments, before, action.__name__)
 
     def test_4_what_was_handed_in_may_be_changed_afterwards(self):
         for action, arguments in self.each_case():
-            answer = action(*arguments)
-            wanted = list(answer)
             fresh = deepcopy(arguments)
-            for argument in arguments:
-                if isinstance(argument, list):
-                    argument.append(((9, 9), 9))
-                    argument.reverse()
-            self.assertEqual(answer, wanted)
-            self.assertEqual(action(*fresh), wanted)
+            answer = action(*arguments)
+            wanted = deepcopy(answer)
+            change_all(lists_within(arguments)[1:])
+            self.assertEqual(answer, wanted, action.__name__)
+            self.assertEqual(action(*fresh), wanted, action.__name__)
 
     def test_4_one_list_in_both_places(self):
         for ring in (0, 5):
@@ -99,15 +145,6 @@ class Owning(unittest.TestCase):
                 self.assertEqual(row, ROW)
                 answer.clear()
                 self.assertEqual(row, ROW)
-
-    def test_4_value_changes_neither_sum_nor_point(self):
-        for ring in (0, 5):
-            row, point = deepcopy(ROW), [7, -3]
-            first = value(ring, row, point)
-            self.assertEqual((row, point), (ROW, [7, -3]))
-            row.clear()
-            point[0] = 0
-            self.assertEqual(value(ring, deepcopy(ROW), [7, -3]), first)
 
     def test_4_refused_things_stay_as_they_were(self):
         pairs = [((1, 1), 2), [(0, 0), 3], ((0, 1), 1)]

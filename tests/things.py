@@ -2,6 +2,7 @@
 
 from fractions import Fraction
 from itertools import product as every_choice
+from math import gcd
 
 from polyring import errors
 
@@ -34,6 +35,16 @@ def no_rings():
     return numbers + others
 
 
+def no_primes():
+    return [0] + no_rings()
+
+
+def no_orders():
+    return ["", "l", "le", "lexx", "Lex", "LEX", " lex", "lex ", "deg ", "degree", "DEG", "lexdeg", "grlex", "x", "0",
+            b"lex", 0, 1, 2, -1, 10 ** 40, True, False, None, (), ("lex",), ("l", "e", "x"), [], ["lex"], ["deg"], {},
+            {"lex": "deg"}, set(), {"lex"}, 1j, Fraction(1), object(), Odd(), str, len]
+
+
 def no_unknowns():
     return [0, 5, 6, -1, -4, 100, 10 ** 40, 10 ** 5000, True, False, None, "", "1", "2", b"2", (), (2,), [], [2], {},
             set(), 1j, Fraction(2), object(), Odd(), int]
@@ -41,6 +52,15 @@ def no_unknowns():
 
 def is_plain_number(thing):
     return isinstance(thing, int) and not isinstance(thing, bool)
+
+
+def lists_within(thing):
+    """All lists in a thing, through lists and tuples, itself too if it is one; one that stands twice comes twice."""
+    found = [thing] if isinstance(thing, list) else []
+    if isinstance(thing, (list, tuple)):
+        for part in thing:
+            found += lists_within(part)
+    return found
 
 
 def refusal_of(action, *arguments):
@@ -103,6 +123,164 @@ def slow_value(ring, row, point):
             number *= place ** exponent
         total += number
     return total % ring if ring else total
+
+
+def fault_of_row(prime, row):
+    """What is wrong with a row by [3], or None."""
+    if not isinstance(row, list):
+        return "no list"
+    for number in row:
+        if not is_plain_number(number) or not 0 <= number < prime:
+            return f"{number!r} is no number of {prime}"
+    if row and row[-1] == 0:
+        return "nought at its end"
+    return None
+
+
+def row_from(prime, numbers):
+    """The row of any numbers, noughts at the end left out."""
+    row = [number % prime for number in numbers]
+    while row and row[-1] == 0:
+        del row[-1]
+    return row
+
+
+def slow_row_times(prime, *rows):
+    """The product of all rows, power by power."""
+    product = [1]
+    for row in rows:
+        numbers = [0] * (len(product) + len(row))
+        for power, number in enumerate(product):
+            for more, by in enumerate(row):
+                numbers[power + more] += number * by
+        product = row_from(prime, numbers)
+    return product
+
+
+def slow_row_plus(prime, ones, others, factor=1):
+    length = max(len(ones), len(others))
+    padded = [list(row) + [0] * (length - len(row)) for row in (ones, others)]
+    return row_from(prime, [one + factor * other for one, other in zip(*padded)])
+
+
+def slow_row_slope(prime, row):
+    return row_from(prime, [power * number for power, number in enumerate(row)][1:])
+
+
+def every_row(prime, most):
+    """All rows of fewer than so many numbers, nought among them."""
+    for length in range(most):
+        for numbers in every_choice(range(prime), repeat=length):
+            if not numbers or numbers[-1]:
+                yield list(numbers)
+
+
+def drawn_row(drawn, prime, power):
+    """A drawn row of just this power."""
+    return [next(drawn) % prime for k in range(power)] + [1 + next(drawn) % (prime - 1)]
+
+
+def drawn_numbers(seed):
+    """A long row of numbers without any order in them, the same ones for each seed."""
+    while True:
+        seed = (seed * 6364136223846793005 + 1442695040888963407) % 2 ** 64
+        yield seed >> 33
+
+
+def drawn_sum(drawn, ring, many, degree, terms, size=9):
+    """A drawn sum of up to so many terms, the exponents of each coming to no more than the degree."""
+    numbers = {}
+    for term in range(terms):
+        exponents = [0] * many
+        for k in range(next(drawn) % (degree + 1)):
+            exponents[next(drawn) % many] += 1
+        numbers[tuple(exponents)] = 1 + next(drawn) % size if next(drawn) % 2 else -1 - next(drawn) % size
+    return from_dict(ring, numbers)
+
+
+def slow_raised(ring, row, count):
+    product = row
+    for k in range(count - 1):
+        product = slow_times(ring, product, row)
+    return product
+
+
+def slow_slope(ring, row, unknown):
+    numbers = {}
+    for exponents, number in row:
+        if exponents[unknown]:
+            less = exponents[:unknown] + (exponents[unknown] - 1,) + exponents[unknown + 1:]
+            numbers[less] = number * exponents[unknown]
+    return from_dict(ring, numbers)
+
+
+def slow_content(row):
+    return gcd(*[number for exponents, number in row])
+
+
+def fault_of_papers(many, ones, others_by_unknown, papers):
+    """What is wrong with the papers (u, v, c) of [26] and [27] for ones and one other sum for each unknown, or None."""
+    if not isinstance(papers, list) or len(papers) != many:
+        return "not one for each unknown"
+    for unknown, paper in enumerate(papers):
+        if not isinstance(paper, tuple) or len(paper) != 3:
+            return f"no triple for {unknown}"
+        faults = [fault_of_sum(0, many, part) for part in paper]
+        if any(faults):
+            return f"{faults} for {unknown}"
+        u, v, c = paper
+        if slow_plus(0, slow_times(0, u, ones), slow_times(0, v, others_by_unknown[unknown])) != c:
+            return f"it doesn't come to c for {unknown}"
+        if not c or any(exponents[unknown] for exponents, number in c):
+            return f"c is nought or has the unknown {unknown}"
+    return None
+
+
+def standing_of(order, exponents):
+    return ((sum(exponents),) if order == "deg" else ()) + tuple(exponents)
+
+
+def lead_of(order, row):
+    return max(row, key=lambda term: standing_of(order, term[0]))
+
+
+def all_divide(one, other):
+    return all(a <= b for a, b in zip(one, other))
+
+
+def slow_combined(ring, factors, rows):
+    """All rows, each times its factor, together."""
+    total = []
+    for factor, row in zip(factors, rows):
+        total = slow_plus(ring, total, slow_times(ring, factor, row))
+    return total
+
+
+def fault_of_quotients(prime, order, many, quotients, rows, top):
+    """What is wrong with a list of a sum for each row whose products may not stand higher than top, or None."""
+    if not isinstance(quotients, list) or len(quotients) != len(rows):
+        return "not one for each"
+    for quotient, row in zip(quotients, rows):
+        if fault_of_sum(prime, many, quotient):
+            return fault_of_sum(prime, many, quotient)
+        if quotient:
+            parts = [lead_of(order, quotient)[0], lead_of(order, row)[0]]
+            place = tuple(map(sum, zip(*parts)))
+            if top is None or standing_of(order, place) > standing_of(order, top):
+                return "a product stands too high"
+    return None
+
+
+def drawn_boxed(drawn, prime, many, highest, terms):
+    """A drawn sum of up to so many terms, each exponent to highest."""
+    numbers = {}
+    for term in range(terms):
+        numbers[tuple(next(drawn) % (highest + 1) for k in range(many))] = 1 + next(drawn) % (prime - 1)
+    return from_dict(prime, numbers)
+
+
+def each_exponents(many, highest):
+    return every_choice(range(highest + 1), repeat=many)
 
 
 def sample_sums(ring, many):
