@@ -3,8 +3,11 @@
 import unittest
 from copy import deepcopy
 
+from polyring.dividing import divided, meet
+from polyring.factors import factors, unsplit
 from polyring.notes import read
 from polyring.rows import row_made, row_minus, row_of, row_plus, row_scaled, row_slope, row_times, row_value, sum_of
+from polyring.squares import no_square, parts
 from polyring.sums import constant, made, minus, plus, raised, scaled, slope, times, value
 from things import lists_within
 
@@ -79,7 +82,43 @@ ROWS = (
     (sum_of, []),
 )
 
-CASES = tuple((case[0], ring) + case[1:] for case in SUMS for ring in (0, 5)) + ROWS
+DIVIDED = (
+    (divided, 5, [1, 2, 3], [1, 1]),
+    (divided, 5, [1, 2, 3], [1]),
+    (divided, 5, [1, 2], [1, 1, 1]),
+    (divided, 5, [], [1, 1]),
+    (divided, 5, [1, 1], [1, 1]),
+    (meet, 5, [4, 0, 1], [1, 1]),
+    (meet, 5, [4, 0, 1], []),
+    (meet, 5, [], [4, 0, 1]),
+    (meet, 5, [1], [1]),
+    (meet, 5, [1, 1], [1, 1]),
+    (meet, 5, [2], [1, 2, 1]),
+    (no_square, 5, [4, 0, 1]),
+    (no_square, 5, [1]),
+    (no_square, 5, [3]),
+    (no_square, 5, [1, 1]),
+    (no_square, 5, [1, 2, 1]),
+    (no_square, 5, []),
+    (parts, 5, [1]),
+    (parts, 5, [1, 1]),
+    (parts, 5, [3, 3]),
+    (parts, 5, [1, 2, 1]),
+    (parts, 5, [1, 0, 0, 0, 0, 1]),
+    (parts, 5, [0, 0, 1, 1]),
+    (factors, 5, [1]),
+    (factors, 5, [1, 1]),
+    (factors, 5, [4, 0, 1]),
+    (factors, 5, [0, 0, 1, 1]),
+    (factors, 5, [2, 0, 1]),
+    (unsplit, 5, [1, 1]),
+    (unsplit, 5, [2, 0, 1]),
+    (unsplit, 5, [4, 0, 1]),
+    (unsplit, 2, [1, 1, 0, 1]),
+    (unsplit, 2, [1, 1, 0, 0, 1]),
+)
+
+CASES = tuple((case[0], ring) + case[1:] for case in SUMS for ring in (0, 5)) + ROWS + DIVIDED
 
 
 def change_all(lists):
