@@ -5,7 +5,10 @@ from copy import deepcopy
 
 from polyring.dividing import divided, meet
 from polyring.factors import factors, unsplit
+from polyring.greatest import common, content
+from polyring.mains import main_in, power_in, quotient, rest_in
 from polyring.notes import read
+from polyring.partsin import no_square_in, parts_in
 from polyring.rows import row_made, row_minus, row_of, row_plus, row_scaled, row_slope, row_times, row_value, sum_of
 from polyring.squares import no_square, parts
 from polyring.sums import constant, made, minus, plus, raised, scaled, slope, times, value
@@ -118,7 +121,49 @@ DIVIDED = (
     (unsplit, 2, [1, 1, 0, 0, 1]),
 )
 
-CASES = tuple((case[0], ring) + case[1:] for case in SUMS for ring in (0, 5)) + ROWS + DIVIDED
+X = [((1, 0), 1)]
+ONE = [((0, 0), 1)]
+SQUARE = [((2, 0), 2), ((1, 1), 4), ((0, 2), 2)]
+LINE = [((1, 0), -1), ((0, 1), -1)]
+CIRCLE = [((2, 0), 1), ((0, 2), 1), ((0, 0), -1)]
+
+OVER_NOUGHT = (
+    (content, SQUARE),
+    (power_in, SQUARE, 0),
+    (main_in, SQUARE, 0),
+    (main_in, ONE, 0),
+    (main_in, [], 1),
+    (rest_in, SQUARE, LINE, 0),
+    (rest_in, LINE, SQUARE, 0),
+    (rest_in, SQUARE, ONE, 1),
+    (rest_in, [], LINE, 0),
+    (quotient, SQUARE, LINE),
+    (quotient, SQUARE, ONE),
+    (quotient, SQUARE, SQUARE),
+    (quotient, [], LINE),
+    (common, SQUARE, LINE),
+    (common, LINE, SQUARE),
+    (common, SQUARE, SQUARE),
+    (common, SQUARE, []),
+    (common, [], LINE),
+    (common, ONE, ONE),
+    (common, ONE, X),
+    (common, X, X),
+    (common, CIRCLE, LINE),
+    (common, CIRCLE, SQUARE),
+    (no_square_in, LINE),
+    (no_square_in, ONE),
+    (no_square_in, X),
+    (no_square_in, CIRCLE),
+    (no_square_in, SQUARE),
+    (parts_in, ONE),
+    (parts_in, X),
+    (parts_in, LINE),
+    (parts_in, SQUARE),
+    (parts_in, CIRCLE),
+)
+
+CASES = tuple((case[0], ring) + case[1:] for case in SUMS for ring in (0, 5)) + ROWS + DIVIDED + OVER_NOUGHT
 
 
 def change_all(lists):
