@@ -30,6 +30,13 @@ EXPRESSIONS = (ast.BoolOp, ast.BinOp, ast.UnaryOp, ast.Lambda, ast.IfExp, ast.Di
                ast.JoinedStr, ast.FormattedValue, ast.Constant, ast.Attribute, ast.Subscript, ast.Name, ast.List,
                ast.Tuple, ast.Slice)
 WALKED_AT_ONCE = ("zip", "enumerate", "reversed", "range")
+VIEWS = ("items", "keys", "values")
+WALKERS = ("list", "tuple", "dict", "sorted", "sum", "any", "all", "enumerate", "zip")
+CHANGERS = ("append", "clear", "extend", "insert", "pop", "remove", "reverse", "setdefault", "update")
+VALUES_OUT = set("""items keys values pop update append clear extend insert remove reverse setdefault sort args encode
+    format""".split())
+VALUES_IN = set("count index title find get join lower upper split strip copy add".split())
+PYTHONS_KINDS = (str, int, list, dict, set, bytes, tuple)
 
 
 def tree_of(path):
@@ -80,8 +87,39 @@ def is_walked_on_the_spot(node):
     parent = node.parent
     if isinstance(parent, (ast.For, ast.comprehension)):
         return parent.iter is node
-    return (isinstance(parent, ast.Call) and isinstance(parent.func, ast.Name) and node in parent.args
-            and parent.func.id in CALLED - set(["len", "isinstance", "range"]))
+    if not isinstance(parent, ast.Call):
+        return False
+    if isinstance(parent.func, ast.Name):
+        first = parent.args[:1] == [node] and parent.func.id in WALKERS
+        return first or (parent.func.id in ("min", "max") and parent.args == [node])
+    return isinstance(parent.func, ast.Attribute) and parent.func.attr == "join" and is_text(parent.func.value)
+
+
+def is_text(node):
+    return isinstance(node, ast.Constant) and isinstance(node.value, str)
+
+
+def is_called(node, names):
+    return isinstance(node, ast.Call) and isinstance(node.func, ast.Name) and node.func.id in names
+
+
+def walked_things(walked):
+    """What a loop over this walks: itself, or what it walks through."""
+    if is_called(walked, ("enumerate", "zip", "reversed")):
+        return [thing for argument in walked.args for thing in walked_things(argument)]
+    if isinstance(walked, ast.Call) and isinstance(walked.func, ast.Attribute) and walked.func.attr in VIEWS:
+        return [ast.dump(walked.func.value)]
+    return [ast.dump(walked)] if isinstance(walked, (ast.Name, ast.Attribute, ast.Subscript)) else []
+
+
+def changed_things(nodes):
+    """What is changed in place, by an index or by a method, as it stands there."""
+    for node in nodes:
+        for part in ast.walk(node):
+            if isinstance(part, ast.Subscript) and isinstance(part.ctx, ast.Store):
+                yield ast.dump(part.value)
+            if isinstance(part, ast.Call) and isinstance(part.func, ast.Attribute) and part.func.attr in CHANGERS:
+                yield ast.dump(part.func.value)
 
 
 class Files(unittest.TestCase):
@@ -223,14 +261,75 @@ class Code(unittest.TestCase):
             elif isinstance(node.func, ast.Name):
                 for keyword in node.keywords:
                     self.assertIn(keyword.arg, KEYWORDS.get(node.func.id, []), told)
+                    if keyword.arg in ("reverse", "strict"):
+                        self.assertIsInstance(keyword.value, ast.Constant, told)
                 if node.func.id in WALKED_AT_ONCE:
                     self.assertTrue(is_walked_on_the_spot(node), told)
+            if isinstance(node.func, ast.Attribute) and node.func.attr in VIEWS:
+                self.assertTrue(is_walked_on_the_spot(node), told)
+
+    def test_no_loop_changes_what_it_walks(self):
+        for node, told in self.each_node(ast.For):
+            self.assertEqual(set(walked_things(node.iter)) & set(changed_things(node.body)), set(), told)
+
+    def test_lists_of_a_file_s_top_are_only_read(self):
+        for path in FILES:
+            tree = tree_of(path)
+            tops = [node for node in tree.body if isinstance(node, ast.Assign)
+                    and isinstance(node.value, (ast.List, ast.Dict))]
+            for top in tops:
+                inner = [part for part in ast.walk(top.value) if part is not top.value]
+                self.assertFalse([part for part in inner if isinstance(part, (ast.List, ast.Dict))], path)
+                name = ast.dump(ast.Name(top.targets[0].id, ast.Load()))
+                self.assertNotIn(name, list(changed_things(tree.body)), path)
+
+    def test_two_lambdas_of_one_form_stand_apart(self):
+        seen = []
+        for node, told in self.each_node(ast.Lambda):
+            seen.append((told.partition(":")[0], [argument.arg for argument in node.args.args]))
+        for one in seen:
+            self.assertEqual(seen.count(one), 1, one)
+
+    def test_methods_and_values_of_objects(self):
+        methods = {node.name for node, told in self.each_node(ast.FunctionDef) if isinstance(node.parent, ast.ClassDef)}
+        values = {node.attr for node, told in self.each_node(ast.Attribute) if isinstance(node.ctx, ast.Store)}
+        own = {name for kind in PYTHONS_KINDS for name in dir(kind)}
+        self.assertEqual(methods & values, set())
+        self.assertEqual(methods & own - {"__init__"}, set())
+        self.assertEqual(values & VALUES_OUT, set())
+        self.assertEqual(values & own - VALUES_IN, set())
+        read = {node.attr for node, told in self.each_node(ast.Attribute) if isinstance(node.ctx, ast.Load)}
+        self.assertEqual(read - methods - values - METHODS, set())
+
+    def test_methods_are_called_where_they_stand(self):
+        methods = {node.name for node, told in self.each_node(ast.FunctionDef) if isinstance(node.parent, ast.ClassDef)}
+        for node, told in self.each_node(ast.Attribute):
+            if node.attr in methods | METHODS:
+                called = isinstance(node.parent, ast.Call) and node.parent.func is node
+                self.assertTrue(called or (isinstance(node.parent, ast.keyword) and node.parent.arg == "key"), told)
+
+    def test_texts(self):
+        for node, told in self.each_node(ast.Constant):
+            if isinstance(node.value, str):
+                self.assertIsNone(re.search(r"[^ -~\n\t]", node.value), told)
+            elif isinstance(node.value, int):
+                self.assertLess(len(str(node.value)), 900, told)
+
+    def test_classes_are_called_or_named(self):
+        classes = {node.name for node, told in self.each_node(ast.ClassDef)}
+        for node, told in self.each_node(ast.Name):
+            if node.id in classes:
+                parent = node.parent
+                called = isinstance(parent, ast.Call) and parent.func is node
+                self.assertTrue(called or in_isinstance(node) or isinstance(parent, (ast.ClassDef, ast.ExceptHandler))
+                                or (isinstance(parent, ast.Tuple) and isinstance(parent.parent, ast.ExceptHandler)), told)
 
     def test_handlers(self):
         for node, told in self.each_node(ast.ExceptHandler):
             self.assertIsNotNone(node.type, told)
             names = [part.id for part in ast.walk(node.type) if isinstance(part, ast.Name)]
-            self.assertEqual(set(names) & set(["Exception", "TypeError"]), set(), told)
+            own = [kind.name for kind, where in self.each_node(ast.ClassDef)]
+            self.assertEqual(set(names) - set(own) - set(["KeyError", "ZeroDivisionError", "StopIteration"]), set(), told)
         for node, told in self.each_node(ast.Raise):
             self.assertIsInstance(node.exc, ast.Call, told)
 

@@ -3,12 +3,16 @@
 import unittest
 from copy import deepcopy
 
+from polyring.asked import member, same, without
+from polyring.bases import base, differences
+from polyring.desk import answers
 from polyring.dividing import divided, meet
 from polyring.factors import factors, unsplit
 from polyring.greatest import common, content
 from polyring.mains import main_in, power_in, quotient, rest_in
 from polyring.notes import read
 from polyring.partsin import no_square_in, parts_in
+from polyring.reducing import reduced
 from polyring.rows import row_made, row_minus, row_of, row_plus, row_scaled, row_slope, row_times, row_value, sum_of
 from polyring.squares import no_square, parts
 from polyring.sums import constant, made, minus, plus, raised, scaled, slope, times, value
@@ -163,7 +167,23 @@ OVER_NOUGHT = (
     (parts_in, CIRCLE),
 )
 
-CASES = tuple((case[0], ring) + case[1:] for case in SUMS for ring in (0, 5)) + ROWS + DIVIDED + OVER_NOUGHT
+A = [((2, 0), 1), ((0, 1), 1)]
+B = [((1, 1), 1), ((0, 0), 6)]
+C = [((0, 2), 3), ((0, 0), 1)]
+GIVENS = ([A, B], [A], [[]], [[], A], [A, A], [B, [], A, C], [ONE], [ONE, A], [[], []], [C])
+
+OVER_PRIMES = tuple((reduced, 7, order, row, by) for order in ("lex", "deg")
+                    for row in (A, B, [], ONE) for by in ([], [A], [A, B], [A, A], [ONE, C]))
+OVER_PRIMES += tuple((base, 7, order, given) for order in ("lex", "deg") for given in GIVENS)
+OVER_PRIMES += tuple((differences, 7, order, rows) for order in ("lex", "deg")
+                     for rows in ([], [A], [A, B], [A, A], [A, C], [X, C, ONE], [ONE, ONE]))
+OVER_PRIMES += tuple((member, 7, order, given, row) for order in ("lex", "deg")
+                     for given in GIVENS for row in (A, [], ONE, X))
+OVER_PRIMES += tuple((same, 7, given, others) for given in GIVENS for others in GIVENS)
+OVER_PRIMES += tuple((without, 7, given, count) for given in GIVENS for count in (0, 1))
+OVER_PRIMES += ((answers, ""), (answers, "ring 7 2\nlet A x\nshow A"))
+
+CASES = tuple((case[0], ring) + case[1:] for case in SUMS for ring in (0, 5)) + ROWS + DIVIDED + OVER_NOUGHT + OVER_PRIMES
 
 
 def change_all(lists):

@@ -279,6 +279,16 @@ def drawn_boxed(drawn, prime, many, highest, terms):
     return from_dict(prime, numbers)
 
 
+# Count of unknowns, greatest exponent and most terms, as [32] names them.
+BASE_SIZES = ((1, 8, 9), (2, 4, 8), (3, 2, 6))
+
+
+def drawn_given(drawn, prime, size, count):
+    """So many drawn sums of two terms or more."""
+    many, highest, terms = size
+    return [drawn_boxed(drawn, prime, many, highest, 2 + next(drawn) % (terms - 1)) for k in range(count)]
+
+
 def each_exponents(many, highest):
     return every_choice(range(highest + 1), repeat=many)
 
