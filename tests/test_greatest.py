@@ -154,6 +154,16 @@ class Common(unittest.TestCase):
                 part, one, other = [drawn_sum(drawn, 0, many, degree, terms) for k in range(3)]
                 self.look_at(many, slow_times(0, part, one), slow_times(0, part, other))
 
+    def test_26_lines_of_each_distance(self):
+        """Sums that have no common part, but come to numbers with a common divisor here and there."""
+        for one in (-2, -1, 0, 1, 5):
+            for other in range(-70, 71):
+                first, second = [((1,), 1), ((0,), one)], [((1,), 1), ((0,), other)]
+                wanted = first if one == other else [((0,), 1)]
+                self.assertEqual(self.look_at(1, [term for term in first if term[1]],
+                                              [term for term in second if term[1]]),
+                                 [term for term in wanted if term[1]])
+
     def test_26_mains_and_resultants_that_come_to_nought_at_whole_numbers(self):
         drawn = drawn_numbers(267)
         parts = [drawn_sum(drawn, 0, 2, 4, 9) for k in range(4)]
@@ -161,9 +171,23 @@ class Common(unittest.TestCase):
             line = [((0, 1), 1), ((0, 0), -number)]
             high = slow_times(0, line, [((5, 0), 2), ((4, 1), 1)])
             self.look_at(2, slow_plus(0, high, parts[0]), slow_plus(0, high, parts[1]))
+            self.look_at_both(2, slow_plus(0, high, parts[0]), slow_plus(0, [((5, 0), 3)], parts[1]))
             root = [((1, 0), 1), ((0, 0), -number)]
             both = [slow_plus(0, slow_times(0, line, parts[k]), slow_times(0, root, parts[k + 2])) for k in (0, 1)]
             self.look_at(2, *both)
+
+    def test_26_rests_that_have_lower_powers_at_whole_numbers(self):
+        factor = [((1, 0), 2), ((0, 2), 1), ((0, 0), -7)]
+        low = [((1, 0), 3), ((0, 1), 1), ((0, 0), 2)]
+        for number in list(range(9, 16)) + list(range(101, 110)):
+            line = [((0, 1), 1), ((0, 0), -number)]
+            for power in (3, 4, 5):
+                by = [((power, 0), 1), ((2, 1), -3), ((1, 2), 2), ((0, 1), 5), ((0, 0), 1)]
+                rest = slow_plus(0, slow_times(0, line, [((power - 1, 0), 1), ((2, 0), 2)]), low)
+                row = slow_plus(0, slow_times(0, factor, by), rest)
+                self.look_at_both(2, row, by)
+                about = [from_dict(0, {exponents[::-1]: own for exponents, own in one}) for one in (row, by)]
+                self.look_at_both(2, *about)
 
     def test_26_few_terms_of_high_degrees(self):
         one = [((8, 0, 0, 0), 1), ((0, 8, 0, 0), 1), ((0, 0, 8, 0), 1), ((0, 0, 0, 8), 1)]
